@@ -1,0 +1,1 @@
+"""Switchkinds: kinds of switch functions."""
