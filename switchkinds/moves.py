@@ -2,8 +2,7 @@
 
 from switchkinds.errors import NoMove, NoName
 from switchkinds.switches import check_many, check_switch
-from switchkinds.wholes import all_rows, how_many_settings, is_many, is_many_listed
-from switchkinds.wholes import is_row, is_whole_below, number_of, setting_at
+from switchkinds.wholes import all_rows, all_settings, is_many, is_many_listed, is_row, is_whole_below, number_of
 
 
 def is_order(many, thing):
@@ -42,7 +41,7 @@ def moved(switch, move):
     check_switch(switch)
     many = switch[0]
     check_move(many, move)
-    sources = [number_of(led(setting_at(many, number), move)) for number in range(how_many_settings(many))]
+    sources = [number_of(led(setting, move)) for setting in all_settings(many)]
     return (many, tuple([switch[1][source] ^ move[2] for source in sources]))
 
 

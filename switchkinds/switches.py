@@ -32,6 +32,18 @@ def check_many(thing):
         raise NoName("there is no such number of names")
 
 
+def check_name(many, thing):
+    """NoName of a name that is none of so many."""
+    if not is_whole_below(thing, many):
+        raise NoName("there is no such name")
+
+
+def check_worth(thing):
+    """NoName of what is neither 0 nor 1."""
+    if not is_whole_below(thing, 2):
+        raise NoName("there is no such worth")
+
+
 def worth_at(switch, setting):
     """The worth of the function at the setting."""
     check_switch(switch)
@@ -82,16 +94,14 @@ def of_ones(many, numbers):
 def constant(many, worth):
     """The function that has this worth everywhere."""
     check_many(many)
-    if not is_whole_below(worth, 2):
-        raise NoName("there is no such worth")
+    check_worth(worth)
     return (many, (worth,) * how_many_settings(many))
 
 
 def single(many, name):
     """The function that is as the name is."""
     check_many(many)
-    if not is_whole_below(name, many):
-        raise NoName("there is no such name")
+    check_name(many, name)
     return (many, tuple([number >> name & 1 for number in range(how_many_settings(many))]))
 
 

@@ -4,10 +4,15 @@ MOST_NAMES = 4
 MOST_NAMES_LISTED = 3
 
 
+def is_whole(thing):
+    """Whether any thing is a whole number."""
+    # To Python, True and False are ints and equal 1 and 0; here they are no whole numbers.
+    return isinstance(thing, int) and not isinstance(thing, bool)
+
+
 def is_whole_below(thing, bound):
     """Whether any thing is a whole number from 0 on that is less than the bound."""
-    # To Python, True and False are ints and equal 1 and 0; here they are no whole numbers.
-    return isinstance(thing, int) and not isinstance(thing, bool) and 0 <= thing < bound
+    return is_whole(thing) and 0 <= thing < bound
 
 
 def are_whole_below(things, bound):
@@ -55,3 +60,13 @@ def setting_at(many, number):
 def number_of(setting):
     """The number of a setting."""
     return sum([part << name for name, part in enumerate(setting)])
+
+
+def all_settings(many):
+    """All settings of so many names, by their numbers."""
+    return [setting_at(many, number) for number in range(how_many_settings(many))]
+
+
+def how_many_ones(number):
+    """How many names are 1 in the setting that has the number."""
+    return sum(setting_at(MOST_NAMES, number))

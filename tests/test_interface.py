@@ -9,6 +9,16 @@ FUNCTIONS = {
         "is_switch": 1, "worth_at": 2, "ones": 1, "of_ones": 2, "constant": 2, "single": 2, "turned": 1,
         "both": 2, "either": 2, "unlike": 2, "all_switches": 1},
     "switchkinds.moves": {"is_move": 2, "moved": 2, "still": 1, "behind": 2, "back": 1, "all_moves": 1},
+    "switchkinds.kinds": {
+        "least_form": 1, "moves_to": 2, "keepers": 1, "kin_of": 1, "all_kinds": 1, "how_many_kinds": 1, "why_not": 2,
+        "are_kin": 2, "is_why_not": 3},
+    "switchkinds.hanging": {
+        "how_much": 2, "needed": 1, "with_set": 3, "put_together": 3, "reduced": 1, "exchanged": 3, "alike_names": 1,
+        "by_count": 1, "marks": 1},
+    "switchkinds.sums": {
+        "sums": 1, "of_sums": 1, "nearest": 1, "how_far": 1, "by_weights": 1, "is_sum": 1, "is_flattest": 1},
+    "switchkinds.classes": {
+        "classes": 1, "missing": 1, "put_in": 2, "made_of": 2, "rising_above": 1, "is_enough": 1},
 }
 
 

@@ -26,6 +26,8 @@ WORDS = re.compile(r"\b(type|typing|typing_extensions|enum|Enum|IntEnum|StrEnum|
                    r"|ABCMeta|namedtuple|NamedTuple|TypedDict|TYPE_CHECKING|abstractmethod)\b"
                    r"|dataclass|overload|contextmanager")
 SPECIAL = ("__init__", "__eq__", "__repr__", "__str__", "__len__")
+WALKED = ("zip", "enumerate", "reversed", "range", "items", "keys", "values")
+WALKERS = ("list", "tuple", "dict", "sorted", "sum", "any", "all", "enumerate", "zip", "min", "max", "join")
 PYTHONS_OWN = [name for name in dir(builtins) if not name.startswith("__")]
 
 
@@ -53,6 +55,19 @@ def top_names(tree):
             yield node.name
         elif isinstance(node, ast.Assign):
             yield node.targets[0].id
+
+
+def with_parents(tree):
+    for above in ast.walk(tree):
+        for node in ast.iter_child_nodes(above):
+            yield node, above
+
+
+def called(node):
+    """The name by which something is called, None where nothing is."""
+    if not isinstance(node, ast.Call):
+        return None
+    return node.func.attr if isinstance(node.func, ast.Attribute) else getattr(node.func, "id", None)
 
 
 class Language(unittest.TestCase):
@@ -123,6 +138,29 @@ class Language(unittest.TestCase):
             for node in ast.walk(tree_of(file)):
                 if isinstance(node, ast.Call) and isinstance(node.func, ast.Attribute):
                     self.assertIn(node.func.attr, METHODS | own, f"{file.name}:{node.lineno}")
+
+    def test_walked_at_once(self):
+        for file in files():
+            for node, above in with_parents(tree_of(file)):
+                if called(node) in WALKED:
+                    where = f"{file.name}:{node.lineno}"
+                    if isinstance(above, ast.Call):
+                        self.assertIn(called(above), WALKERS, where)
+                        self.assertIs(above.args[0], node, where)
+                        self.assertTrue(called(above) not in ("min", "max") or len(above.args) == 1, where)
+                    else:
+                        self.assertIsInstance(above, (ast.For, ast.comprehension), where)
+
+    def test_sets_on_the_spot(self):
+        for file in files():
+            for node, above in with_parents(tree_of(file)):
+                if called(node) in ("set", "frozenset") or isinstance(node, ast.Set):
+                    where = f"{file.name}:{node.lineno}"
+                    if isinstance(above, ast.Call):
+                        self.assertIn(called(above), ("sorted", "len"), where)
+                        self.assertFalse(above.keywords, where)
+                    else:
+                        self.assertIsInstance(above, (ast.Compare, ast.BinOp), where)
 
     def test_imports(self):
         drawn = {}

@@ -7,27 +7,8 @@ from switchkinds.errors import NoMove, NoName, NoSwitch
 from switchkinds.moves import all_moves, back, behind, is_move, moved, still
 from switchkinds.switches import both, single, turned
 from things import (
-    NO_SWITCHES, SOME_MOVES, SOME_SWITCHES, THINGS, TOO_LONG, Asking, moves_by_words, near_things, no_moves, no_wholes,
-    number_by_words, settings_by_words, some_moves, some_switches, written_as_move)
-
-
-def moved_by_words(switch, move):
-    """The document's words, setting by setting and name by name."""
-    many, worths = switch
-    order, turns, whole = move
-    told = []
-    for setting in settings_by_words(many):
-        looked_up = []
-        for place in range(many):
-            part = setting[order[place]]
-            if turns[place] == 1:
-                part = 1 if part == 0 else 0
-            looked_up.append(part)
-        worth = worths[number_by_words(looked_up)]
-        if whole == 1:
-            worth = 1 if worth == 0 else 0
-        told.append(worth)
-    return (many, tuple(told))
+    NO_SWITCHES, SOME_MOVES, SOME_SWITCHES, THINGS, TOO_LONG, Asking, moved_by_words, moves_by_words, near_things,
+    no_moves, no_wholes, some_moves, some_switches, written_as_move)
 
 
 class WhatAMoveIs(Asking, unittest.TestCase):

@@ -41,6 +41,29 @@ def number_by_words(setting):
     return sum(weight for weight, part in zip((1, 2, 4, 8), setting) if part == 1)
 
 
+def worth_by_words(switch, setting):
+    return switch[1][number_by_words(setting)]
+
+
+def moved_by_words(switch, move):
+    """The document's words, setting by setting and name by name."""
+    many, worths = switch
+    order, turns, whole = move
+    told = []
+    for setting in settings_by_words(many):
+        looked_up = []
+        for place in range(many):
+            part = setting[order[place]]
+            if turns[place] == 1:
+                part = 1 if part == 0 else 0
+            looked_up.append(part)
+        worth = worths[number_by_words(looked_up)]
+        if whole == 1:
+            worth = 1 if worth == 0 else 0
+        told.append(worth)
+    return (many, tuple(told))
+
+
 def switches_by_words(many):
     """All functions of 0 to 3 names, rising by worths."""
     return [(many, worths) for worths in itertools.product((0, 1), repeat=2 ** many)]
@@ -167,6 +190,9 @@ class Asking:
         told = asked(*handed)
         self.assertIs(type(told), list)
         wanted = repr(told)
+        for part in told:
+            if isinstance(part, list):
+                part.append("changed")
         told.append("changed")
         told.reverse()
         told[0] = None
