@@ -110,6 +110,7 @@ def wild_things():
 def near_things(thing):
     """Things that are as this nested tuple but for one place, at any depth, and some equal but of other kinds."""
     yield thing
+    yield from PLAIN
     if isinstance(thing, tuple):
         yield list(thing)
         yield thing + (0,)
@@ -122,7 +123,6 @@ def near_things(thing):
             for changed in near_things(part):
                 yield thing[:place] + (changed,) + thing[place + 1:]
     else:
-        yield from PLAIN
         yield bool(thing)
         yield (thing,)
         yield [thing]
