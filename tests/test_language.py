@@ -28,6 +28,7 @@ WORDS = re.compile(r"\b(type|typing|typing_extensions|enum|Enum|IntEnum|StrEnum|
 SPECIAL = ("__init__", "__eq__", "__repr__", "__str__", "__len__")
 WALKED = ("zip", "enumerate", "reversed", "range", "items", "keys", "values")
 WALKERS = ("list", "tuple", "dict", "sorted", "sum", "any", "all", "enumerate", "zip", "min", "max", "join")
+PYTHONS_VALUES = [name for kind in (str, int, list, dict, set, bytes, tuple) for name in dir(kind)]
 PYTHONS_OWN = [name for name in dir(builtins) if not name.startswith("__")]
 
 
@@ -138,6 +139,40 @@ class Language(unittest.TestCase):
             for node in ast.walk(tree_of(file)):
                 if isinstance(node, ast.Call) and isinstance(node.func, ast.Attribute):
                     self.assertIn(node.func.attr, METHODS | own, f"{file.name}:{node.lineno}")
+
+    def test_values_of_objects(self):
+        methods = {method.name for file in files() for node in tree_of(file).body if isinstance(node, ast.ClassDef)
+                   for method in node.body if isinstance(method, ast.FunctionDef)}
+        for file in files():
+            for node in ast.walk(tree_of(file)):
+                if isinstance(node, ast.Attribute) and isinstance(node.ctx, ast.Store):
+                    where = f"{file.name}:{node.lineno}"
+                    self.assertIsInstance(node.value, ast.Name, where)
+                    self.assertNotIn(node.attr, methods, where)
+                    self.assertNotIn(node.attr, PYTHONS_VALUES, where)
+
+    def test_names_of_methods(self):
+        for file in files():
+            for node in tree_of(file).body:
+                if isinstance(node, ast.ClassDef):
+                    self.assertFalse(node.decorator_list or node.keywords or len(node.bases) > 1, node.name)
+                    names = [method.name for method in node.body if isinstance(method, ast.FunctionDef)]
+                    self.assertEqual(len(names), len(set(names)), node.name)
+                    for name in set(names) - set(SPECIAL):
+                        self.assertTrue(name in METHODS or name not in PYTHONS_VALUES, name)
+
+    def test_top_values_are_read_alone(self):
+        for file in files():
+            tree = tree_of(file)
+            for node in tree.body:
+                if isinstance(node, ast.Assign):
+                    self.assertIsInstance(ast.literal_eval(node.value), (int, str, tuple, list, dict), file.name)
+
+    def test_texts_hold_no_percent_sign(self):
+        for file in files():
+            for node in ast.walk(tree_of(file)):
+                if isinstance(node, ast.Constant) and isinstance(node.value, str):
+                    self.assertNotIn("%", node.value, f"{file.name}:{node.lineno}")
 
     def test_walked_at_once(self):
         for file in files():

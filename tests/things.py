@@ -32,6 +32,18 @@ def written_as_move(many, thing):
     return repr(many) in ("0", "1", "2", "3", "4") and repr(thing) in MOVE_FORMS[many]
 
 
+def terms_by_words(many):
+    """All terms of so many names, in the document's order."""
+    return list(itertools.product((0, 1, None), repeat=many))
+
+
+TERM_FORMS = [{repr(term) for term in terms_by_words(many)} for many in range(5)]
+
+
+def written_as_term(many, thing):
+    return repr(many) in ("0", "1", "2", "3", "4") and repr(thing) in TERM_FORMS[many]
+
+
 def settings_by_words(many):
     """All settings by their numbers: name 0 changes with each, the last name just once."""
     return [setting[::-1] for setting in itertools.product((0, 1), repeat=many)]
@@ -163,6 +175,37 @@ def no_settings(many):
     fitting = [repr(setting) for setting in settings_by_words(many)]
     near = [thing for setting in settings_by_words(many) for thing in near_things(setting)]
     return [thing for thing in THINGS + near if repr(thing) not in fitting]
+
+
+SIGNS = "".join(chr(number) for number in range(ord(" "), ord("~") + 1)) + "\n"
+
+
+def spoilt(text, signs=SIGNS):
+    """Texts that come of this one: signs put in, taken out, exchanged; stretches and lines left out, twice, moved."""
+    places = range(len(text) + 1)
+    for place in places:
+        for sign in signs:
+            yield text[:place] + sign + text[place:]
+            yield text[:place] + sign + text[place + 1:]
+        yield text[:place] + text[place:place + 2][::-1] + text[place + 2:]
+        for end in places[place + 1:]:
+            yield text[:place] + text[end:]
+            yield text[:end] + text[place:]
+            yield text[place:end]
+    lines = text.split("\n")
+    for one, other in itertools.combinations(range(len(lines)), 2):
+        changed = list(lines)
+        changed[one], changed[other] = changed[other], changed[one]
+        yield "\n".join(changed)
+        yield "\n".join(lines[:one] + lines[other:])
+        yield "\n".join(lines[:other] + lines[one:])
+    for old, new in ((" ", ""), (" ", "  "), (" ", "\n"), ("\n", ""), ("\n", " "), ("\n", "\n\n"), ("\n", " \n"),
+                     (":", ""), (":", "::"), (":", " : "), ("=", "!"), ("=", "=="), ("-", "--"), ("-", "- "),
+                     ("0", "00"), ("1", "01"), ("1", "+1"), ("1", "True"), ("0", "O"), ("1", "l"), ("0", "-0"),
+                     ("2", "02")):
+        yield text.replace(old, new)
+        yield text.replace(old, new, 1)
+    yield from (text.upper(), text.strip(), text[::-1], text + text, " " + text, text + " ", text + "\n", "\n" + text)
 
 
 class Asking:
